@@ -33,11 +33,11 @@ func TestExample(t *testing.T) {
 	}
 }
 
-type area struct{ blocks, start, length int }
+type span struct{ blocks, start, length int }
 
 // areas: areas that may be.
-func areas() []area {
-	return []area{{8, 0, 8}, {9, 1, 8}, {9, 0, 8}, {9, 0, 9}, {16, 0, 8}, {16, 1, 8}, {16, 7, 9}, {16, 8, 8}, {128, 19, 36}, {1024, 0, 8}, {1024, 0, 1024}, {1024, 1, 1023}, {1024, 1016, 8}, {1024, 131, 64}}
+func areas() []span {
+	return []span{{8, 0, 8}, {9, 1, 8}, {9, 0, 8}, {9, 0, 9}, {16, 0, 8}, {16, 1, 8}, {16, 7, 9}, {16, 8, 8}, {128, 19, 36}, {1024, 0, 8}, {1024, 0, 1024}, {1024, 1, 1023}, {1024, 1016, 8}, {1024, 131, 64}}
 }
 
 func TestAreasThatMayBe(t *testing.T) {
@@ -55,7 +55,7 @@ func TestAreasThatMayBe(t *testing.T) {
 }
 
 func TestAreasThatMayNotBe(t *testing.T) {
-	l := []area{
+	l := []span{
 		{16, 0, 7}, {16, 3, 7}, {16, 0, 0}, {16, 0, 1}, {16, 0, -1}, {16, 0, -8}, {16, 16, -8}, {16, 0, math.MinInt}, {16, 0, math.MaxInt},
 		{1024, 0, 7}, {1024, 0, 1025}, {1024, 0, 2048}, {1024, 0, 1 << 32}, {1024, 0, 1<<32 + 8}, {1024, 0, math.MaxInt},
 		{16, -1, 8}, {16, -8, 8}, {16, -8, 16}, {16, -1, 17}, {16, math.MinInt, 8}, {16, math.MinInt, math.MinInt}, {16, math.MinInt, math.MaxInt},
@@ -83,7 +83,7 @@ func TestAreasThatMayNotBe(t *testing.T) {
 
 func TestNoDisk(t *testing.T) {
 	for _, d := range []*disk.Disk{nil, {}} {
-		for _, a := range []area{{0, 0, 8}, {0, 0, 7}, {0, 0, 0}, {0, -1, 8}, {0, -8, 8}, {0, math.MinInt, 8}, {0, math.MaxInt, math.MaxInt}, {0, 0, 1024}} {
+		for _, a := range []span{{0, 0, 8}, {0, 0, 7}, {0, 0, 0}, {0, -1, 8}, {0, -8, 8}, {0, math.MinInt, 8}, {0, math.MaxInt, math.MaxInt}, {0, 0, 1024}} {
 			if err := Format(d, a.start, a.length); err != api.ErrArg {
 				t.Errorf("%v: Format: error %d, want ErrArg", a, err)
 			}
@@ -97,7 +97,7 @@ func TestNoDisk(t *testing.T) {
 // P4.1: Format and heads.
 
 func TestFormatWrites(t *testing.T) {
-	for _, a := range []area{{8, 0, 8}, {9, 1, 8}, {16, 8, 8}, {16, 3, 9}} {
+	for _, a := range []span{{8, 0, 8}, {9, 1, 8}, {16, 8, 8}, {16, 3, 9}} {
 		begin := func() (*disk.Disk, *Log) {
 			d, err := disk.Load(noise(256*a.blocks, 5))
 			if err != api.OK {
@@ -126,7 +126,7 @@ func TestFormatTellsTheseBytes(t *testing.T) {
 }
 
 func TestOpenAtTheHead(t *testing.T) {
-	for _, a := range []area{{16, 0, 8}, {16, 5, 11}, {128, 19, 36}, {1024, 0, 1024}} {
+	for _, a := range []span{{16, 0, 8}, {16, 5, 11}, {128, 19, 36}, {1024, 0, 1024}} {
 		for _, seq := range []uint64{0, 1, 2, 255, 256, 1 << 31, 1 << 32, 0x0807060504030201, 1 << 63, math.MaxUint64} {
 			for _, place := range []int{0, 1, 3, a.length - 3, a.length - 2} {
 				d, l := at(t, a.blocks, a.start, a.length, seq, place)
@@ -429,13 +429,13 @@ func TestErrLogAheadOfErrSpace(t *testing.T) {
 // Blocks just ahead of the area and just behind it, the disk's first and last one.
 func TestRecordsOfBlocksBesideTheArea(t *testing.T) {
 	for _, c := range []struct {
-		a      area
+		a      span
 		blocks []int
 	}{
-		{area{32, 5, 10}, []int{0, 4, 15, 31}},
-		{area{32, 0, 10}, []int{10, 31}},
-		{area{32, 22, 10}, []int{0, 21}},
-		{area{32, 1, 30}, []int{0, 31}},
+		{span{32, 5, 10}, []int{0, 4, 15, 31}},
+		{span{32, 0, 10}, []int{10, 31}},
+		{span{32, 22, 10}, []int{0, 21}},
+		{span{32, 1, 30}, []int{0, 31}},
 	} {
 		for _, block := range c.blocks {
 			d, l := at(t, c.a.blocks, c.a.start, c.a.length, 1, 0)
